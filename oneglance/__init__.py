@@ -1,0 +1,1 @@
+"""Oneglance: dealings over shared boxes that are tried again."""

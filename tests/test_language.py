@@ -1,0 +1,121 @@
+"""The package keeps to the small part of Python that it is written in, as far as a look at its form can tell."""
+
+import ast
+import builtins
+import pathlib
+import re
+import unittest
+
+PACKAGE = pathlib.Path(__file__).resolve().parent.parent / "oneglance"
+OWN_NAMES = """len range enumerate zip min max sum abs sorted reversed int str bool list tuple dict set frozenset
+    isinstance ord repr any all divmod Exception ValueError TypeError KeyError IndexError LookupError
+    ZeroDivisionError ArithmeticError OverflowError RuntimeError NotImplementedError AttributeError
+    StopIteration""".split()
+METHODS = """append clear copy count endswith extend find get index insert isalnum isalpha isdigit islower isspace
+    isupper items join keys ljust lower lstrip partition pop remove replace reverse rfind rjust rpartition rsplit
+    rstrip setdefault split splitlines startswith strip update upper values zfill bit_length""".split()
+WORDS_OUT = """type typing typing_extensions enum Enum IntEnum StrEnum Flag IntFlag Generic Protocol ABC ABCMeta
+    namedtuple NamedTuple TypedDict TYPE_CHECKING abstractmethod""".split()
+NAMES_OUT = """register mro elements open input version_info with_traceback add_note getattr setattr super vars
+    exec eval compile globals locals sys os""".split()
+DOUBLE = ["__init__", "__eq__", "__repr__", "__str__", "__len__"]
+NODES_OUT = (ast.With, ast.Match, ast.Delete, ast.Global, ast.Nonlocal, ast.Assert, ast.Yield, ast.YieldFrom,
+             ast.AsyncFunctionDef, ast.Await, ast.AsyncFor, ast.AsyncWith, ast.GeneratorExp, ast.SetComp,
+             ast.DictComp, ast.NamedExpr, ast.Starred, ast.Div, ast.AnnAssign, ast.Import, ast.Set)
+
+
+def own_files():
+    return sorted(PACKAGE.glob("*.py"))
+
+
+def parsed(path):
+    return ast.parse(path.read_text("ascii"))
+
+
+def nodes(path, *kinds):
+    return [node for node in ast.walk(parsed(path)) if isinstance(node, kinds)]
+
+
+def names_bound(path):
+    return ([node.id for node in nodes(path, ast.Name) if isinstance(node.ctx, ast.Store)]
+            + [node.arg for node in nodes(path, ast.arg)]
+            + [node.name for node in nodes(path, ast.FunctionDef, ast.ClassDef)])
+
+
+class LanguageTest(unittest.TestCase):
+    def test_files(self):
+        self.assertIn(PACKAGE / "__init__.py", own_files())
+        for path in PACKAGE.iterdir():
+            if path.name != "__pycache__":
+                self.assertRegex(path.name, r"\A([a-z][a-z0-9_]*|__init__)\.py\Z")
+
+    def test_signs_and_sizes(self):
+        for path in own_files():
+            text = path.read_text("ascii")
+            rows = text.split("\n")
+            self.assertRegex(text, r"\A[ -~\n]*\Z")
+            self.assertLessEqual(len(rows), 401)
+            self.assertLessEqual(max(len(row) for row in rows), 120)
+            for node in nodes(path, ast.FunctionDef):
+                self.assertLessEqual(node.end_lineno - node.lineno + 1, 40, node.name)
+
+    def test_words_that_stand_nowhere(self):
+        for path in own_files():
+            words = re.findall(r"\w+", path.read_text("ascii"))
+            self.assertEqual([word for word in words if word in WORDS_OUT], [])
+
+    def test_no_form_that_is_out(self):
+        for path in own_files():
+            self.assertEqual([node.lineno for node in nodes(path, *NODES_OUT)], [])
+            for node in nodes(path, ast.FunctionDef, ast.ClassDef):
+                self.assertEqual(node.decorator_list, [])
+            for node in nodes(path, ast.For, ast.While):
+                self.assertEqual(node.orelse, [])
+            for node in nodes(path, ast.Assign):
+                self.assertEqual(len(node.targets), 1)
+            for node in nodes(path, ast.Try):
+                self.assertEqual(node.finalbody, [])
+            for node in nodes(path, ast.Constant):
+                self.assertIsInstance(node.value, (int, str, type(None)))
+                self.assertNotIn("%", str(node.value))
+
+    def test_imports_are_the_packages_own(self):
+        for path in own_files():
+            for node in nodes(path, ast.ImportFrom):
+                self.assertEqual(node.level, 0)
+                source = PACKAGE / (node.module.removeprefix("oneglance.") + ".py")
+                self.assertIn(source, own_files())
+                tops = [top.name for top in parsed(source).body if isinstance(top, (ast.FunctionDef, ast.ClassDef))]
+                for name in node.names:
+                    self.assertIn(name.name, tops)
+
+    def test_names(self):
+        for path in own_files():
+            for name in names_bound(path):
+                self.assertTrue(name in DOUBLE or not name.startswith("_"), name)
+                self.assertFalse(hasattr(builtins, name) and name not in DOUBLE, name)
+            for node in nodes(path, ast.Name):
+                self.assertTrue(node.id in OWN_NAMES or not hasattr(builtins, node.id), node.id)
+                self.assertNotIn(node.id, NAMES_OUT)
+
+    def test_methods_of_pythons_own(self):
+        own = [name for path in own_files() for name in names_bound(path)]
+        for path in own_files():
+            for node in nodes(path, ast.Call):
+                if isinstance(node.func, ast.Attribute):
+                    self.assertIn(node.func.attr, METHODS + own + DOUBLE)
+
+    def test_is_stands_beside_none_and_truths(self):
+        for path in own_files():
+            for node in nodes(path, ast.Compare):
+                if isinstance(node.ops[0], (ast.Is, ast.IsNot)):
+                    self.assertIn(repr(getattr(node.comparators[0], "value", 0)), ("None", "True", "False"))
+
+    def test_no_name_is_both_a_method_and_a_value(self):
+        methods = []
+        values = []
+        for path in own_files():
+            for made in nodes(path, ast.ClassDef):
+                methods += [node.name for node in made.body if isinstance(node, ast.FunctionDef)]
+            values += [node.attr for node in nodes(path, ast.Attribute) if isinstance(node.ctx, ast.Store)]
+        self.assertEqual(sorted(set(methods) & set(values)), [])
