@@ -89,6 +89,24 @@ class LanguageTest(unittest.TestCase):
                 for name in node.names:
                     self.assertIn(name.name, tops)
 
+    def test_no_two_files_draw_from_one_another(self):
+        drawn = {}
+        for path in own_files():
+            drawn[path.stem] = {node.module.removeprefix("oneglance.") for node in nodes(path, ast.ImportFrom)}
+        while drawn:
+            free = [name for name in drawn if not drawn[name] & set(drawn)]
+            self.assertNotEqual(free, [], drawn)
+            for name in free:
+                drawn.pop(name)
+
+    def test_no_local_is_called_like_a_class_or_an_import(self):
+        for path in own_files():
+            taken = [name.name for node in nodes(path, ast.ImportFrom) for name in node.names]
+            taken += [node.name for node in nodes(path, ast.ClassDef)]
+            local = [node.id for node in nodes(path, ast.Name) if isinstance(node.ctx, ast.Store)]
+            local += [node.arg for node in nodes(path, ast.arg)]
+            self.assertEqual(sorted(set(taken) & set(local)), [])
+
     def test_names(self):
         for path in own_files():
             for name in names_bound(path):

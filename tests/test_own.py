@@ -5,13 +5,41 @@ import unittest
 
 from oneglance.alone import alone, footprint
 from oneglance.dealings import deeds_in, is_dealing
+from oneglance.good import first_bad, good, shows_none
+from oneglance.logs import ahead, attempts, end_of, is_log, outer_looks, puts_of
+from oneglance.orders import asked, behind, is_order, moments
+from oneglance.rows import in_row
 from oneglance.wholes import is_whole
 from oneglance.worlds import is_state, is_world
-from tests.things import ANYTHING, HUGE, woven_dealings
+from tests.things import ANYTHING, HUGE, woven_dealings, woven_logs
 
 WORLD = (3, 7)
 STATE = (4, 5, 0)
 WAIT = ("wait",)
+LOOKS_AND_WAITS = (("look", 0, 2), ("look", 0, 0), WAIT)
+GOOD_LOG = [("begin", 2), ("look", 2, 0, 4), ("put", 2, 1, 3), ("put", 2, 0, 1), ("done", 2), ("begin", 0),
+            ("look", 0, 1, 3), ("fall", 0)]
+BAD_LOG = GOOD_LOG + [("begin", 1), ("look", 1, 1, 5), ("done", 1)]
+
+
+def told_of_logs(log):
+    """All that is told of a log, each time asked anew."""
+    some = asked(log, False)
+    told = [attempts(log), ahead(log), asked(log, True), some, behind(WORLD, STATE, log, some)]
+    for a in attempts(log):
+        told += [end_of(log, a), outer_looks(log, a), puts_of(log, a), moments(WORLD, STATE, log, some, a)]
+    for every in (True, False):
+        told += [good(WORLD, STATE, log, every), is_order(WORLD, STATE, log, every, some)]
+        told.append(shows_none(WORLD, STATE, log, every, good(WORLD, STATE, log, every)[1]))
+    return told + [first_bad(WORLD, STATE, log), is_log(WORLD, log)]
+
+
+def lists_in(told):
+    if isinstance(told, list):
+        return [told] + [inner for part in told for inner in lists_in(part)]
+    if isinstance(told, tuple):
+        return [inner for part in told for inner in lists_in(part)]
+    return []
 
 
 class WholeTest(unittest.TestCase):
@@ -32,6 +60,8 @@ class HandedInTest(unittest.TestCase):
             is_world(thing)
             is_state(WORLD, thing)
             is_dealing(WORLD, thing)
+            is_log(WORLD, thing)
+            shows_none(WORLD, STATE, BAD_LOG, True, thing)
         self.assertEqual(repr(things), before)
 
     def test_dealings_and_states_stay_as_they_were(self):
@@ -42,6 +72,33 @@ class HandedInTest(unittest.TestCase):
             deeds_in(dealing)
             is_dealing(WORLD, dealing)
             self.assertEqual(repr((WORLD, dealing, STATE)), before)
+
+    def test_logs_stay_as_they_were(self):
+        for log in woven_logs(7, WORLD, STATE, 100) + [GOOD_LOG, BAD_LOG]:
+            before = repr(log)
+            told_of_logs(log)
+            self.assertEqual(repr(log), before)
+
+    def test_orders_tables_and_rows_stay_as_they_were(self):
+        order = [2, 0]
+        table = [((0,), STATE), ((), STATE)]
+        dealings = [LOOKS_AND_WAITS, ()]
+        is_order(WORLD, STATE, GOOD_LOG, True, order)
+        behind(WORLD, STATE, GOOD_LOG, order)
+        moments(WORLD, STATE, GOOD_LOG, order, 0)
+        shows_none(WORLD, STATE, BAD_LOG, True, table)
+        in_row(WORLD, dealings, STATE, order[1:])
+        self.assertEqual(order, [2, 0])
+        self.assertEqual(table, [((0,), STATE), ((), STATE)])
+        self.assertEqual(dealings, [LOOKS_AND_WAITS, ()])
+
+    def test_what_is_done_to_a_log_later_changes_nothing_that_was_told(self):
+        log = list(GOOD_LOG)
+        told = told_of_logs(log)
+        kept = copy.deepcopy(told)
+        log.extend([("begin", 7), ("begin", 9), ("look", 7, 0, 0)])
+        log[0] = None
+        self.assertEqual(told, kept)
 
     def test_what_is_done_to_a_thing_later_changes_no_answer(self):
         thing = [3, 7]
@@ -76,6 +133,24 @@ class ToldTest(unittest.TestCase):
             lists = [first[0], first[1], second[0], second[1]]
             self.assertEqual(len({id(told) for told in lists}), 4)
         self.assertIsNot(alone(WORLD, (WAIT,), STATE)[1], alone(WORLD, (WAIT,), STATE)[1])
+
+    def test_a_changed_list_of_a_row_changes_nothing_later(self):
+        dealings = [(), LOOKS_AND_WAITS]
+        in_row(WORLD, dealings, STATE, [0, 1])[2].append(9)
+        self.assertEqual(in_row(WORLD, dealings, STATE, [0, 1]), ("waits", 1, [0, 2]))
+
+    def test_changed_lists_of_a_log_change_nothing_later(self):
+        for log in (GOOD_LOG, BAD_LOG, []):
+            kept = copy.deepcopy(told_of_logs(log))
+            for told in lists_in(told_of_logs(log)):
+                told.append(9)
+                told.reverse()
+            self.assertEqual(told_of_logs(log), kept)
+
+    def test_no_two_lists_told_of_a_log_are_one(self):
+        for log in (GOOD_LOG, BAD_LOG, []):
+            lists = lists_in(told_of_logs(log)) + lists_in(told_of_logs(log)) + [log]
+            self.assertEqual(len({id(told) for told in lists}), len(lists))
 
     def test_a_later_telling_changes_none_that_was_told(self):
         first = footprint(WORLD, (("look", 0, 2), ("put", 1, 0)), STATE)

@@ -43,3 +43,43 @@ def woven_run(source, world, tries, most):
 def woven_dealings(seed, world, many):
     source = random.Random(seed)
     return [woven_run(source, world, 3, 6) for step in range(many)]
+
+
+def woven_event(source, world, a, own, boxes):
+    word = source.choice(["look", "look", "look", "put", "put", "done", "done", "fall"])
+    box = source.randrange(world[0])
+    if word == "put":
+        own[box] = source.randrange(world[1])
+        return ("put", a, box, own[box])
+    if word == "look":
+        # Mostly what is there, so that some logs are good for long.
+        there = boxes[box] if source.random() < 0.8 else source.randrange(world[1])
+        return ("look", a, box, own.get(box, there))
+    if word == "done":
+        for box in own:
+            boxes[box] = own[box]
+    return (word, a)
+
+
+def woven_log(source, world, state, many, events):
+    """A log of at most so many attempts and events; what its outer looks tell may come from nowhere."""
+    log = []
+    boxes = list(state)
+    own = {}
+    names = source.sample(range(200), many)
+    for step in range(events):
+        if names and (not own or source.random() < 0.3):
+            a = names.pop()
+            own[a] = {}
+            log.append(("begin", a))
+        elif own:
+            a = source.choice(sorted(own))
+            log.append(woven_event(source, world, a, own[a], boxes))
+            if log[-1][0] in ("done", "fall"):
+                own.pop(a)
+    return log
+
+
+def woven_logs(seed, world, state, times, many=5, events=20):
+    source = random.Random(seed)
+    return [woven_log(source, world, state, source.randint(0, many), source.randint(0, events)) for step in range(times)]
