@@ -36,6 +36,11 @@ def nodes(path, *kinds):
     return [node for node in ast.walk(parsed(path)) if isinstance(node, kinds)]
 
 
+def names_at_the_top(path):
+    tops = [top.name for top in parsed(path).body if isinstance(top, (ast.FunctionDef, ast.ClassDef))]
+    return tops + [top.targets[0].id for top in parsed(path).body if isinstance(top, ast.Assign)]
+
+
 def names_bound(path):
     return ([node.id for node in nodes(path, ast.Name) if isinstance(node.ctx, ast.Store)]
             + [node.arg for node in nodes(path, ast.arg)]
@@ -85,7 +90,7 @@ class LanguageTest(unittest.TestCase):
                 self.assertEqual(node.level, 0)
                 source = PACKAGE / (node.module.removeprefix("oneglance.") + ".py")
                 self.assertIn(source, own_files())
-                tops = [top.name for top in parsed(source).body if isinstance(top, (ast.FunctionDef, ast.ClassDef))]
+                tops = names_at_the_top(source)
                 for name in node.names:
                     self.assertIn(name.name, tops)
 

@@ -6,9 +6,13 @@ import unittest
 from oneglance.alone import alone, footprint
 from oneglance.dealings import deeds_in, is_dealing
 from oneglance.good import first_bad, good, shows_none
+from oneglance.keeper import Keeper
 from oneglance.logs import ahead, attempts, end_of, is_log, outer_looks, puts_of
+from oneglance.musts import is_ring, is_tale_order, musts, order_or_ring
 from oneglance.orders import asked, behind, is_order, moments
 from oneglance.rows import in_row
+from oneglance.tales import is_tale, would_tell
+from oneglance.tries import Tries
 from oneglance.wholes import is_whole
 from oneglance.worlds import is_state, is_world
 from tests.things import ANYTHING, HUGE, woven_dealings, woven_logs
@@ -32,6 +36,25 @@ def told_of_logs(log):
         told += [good(WORLD, STATE, log, every), is_order(WORLD, STATE, log, every, some)]
         told.append(shows_none(WORLD, STATE, log, every, good(WORLD, STATE, log, every)[1]))
     return told + [first_bad(WORLD, STATE, log), is_log(WORLD, log)]
+
+
+TALES = [(1, (), ((),), ()), (3, ((0, 1),), ((1, 0),), ((2, 0, 0),)), (3, ((0, 1),), ((0, 1),), ((2, 0, 0),)),
+         (2, (), ((0, 1),), ((0, 0, -1), (1, 0, -1)))]
+
+
+def told_of_tales(tale):
+    """All that is told of a tale, each time asked anew."""
+    every = list(range(tale[0]))
+    told = [musts(tale), order_or_ring(tale), would_tell(tale, every)]
+    return told + [is_tale(tale), is_tale_order(tale, every), is_ring(tale, every)]
+
+
+def told_of_keeper(keeper):
+    return [keeper.log(), keeper.order(), keeper.now(), keeper.clock()] + [keeper.mark(b) for b in range(3)]
+
+
+def told_of_tries(tries):
+    return [tries.log(), tries.order(), tries.now(), tries.rests(), tries.falls(0), tries.hands(0)]
 
 
 def lists_in(told):
@@ -61,6 +84,7 @@ class HandedInTest(unittest.TestCase):
             is_state(WORLD, thing)
             is_dealing(WORLD, thing)
             is_log(WORLD, thing)
+            is_tale(thing)
             shows_none(WORLD, STATE, BAD_LOG, True, thing)
         self.assertEqual(repr(things), before)
 
@@ -91,6 +115,28 @@ class HandedInTest(unittest.TestCase):
         self.assertEqual(order, [2, 0])
         self.assertEqual(table, [((0,), STATE), ((), STATE)])
         self.assertEqual(dealings, [LOOKS_AND_WAITS, ()])
+
+    def test_orders_and_rings_of_tales_stay_as_they_were(self):
+        for tale in TALES:
+            for order in ([0, 1, 2][:tale[0]], [2, 1, 0][-tale[0]:]):
+                before = list(order)
+                would_tell(tale, order)
+                is_tale_order(tale, order)
+                is_ring(tale, order)
+                self.assertEqual(order, before)
+
+    def test_dealings_to_be_tried_stay_as_they_were_and_are_not_kept(self):
+        dealings = [LOOKS_AND_WAITS, (("look", 0, 2), ("put", 1, 0)), ()]
+        kept = list(dealings)
+        tries = Tries(WORLD, STATE, dealings)
+        for i in (0, 1, 2) * 3:
+            tries.go(i)
+        self.assertEqual(dealings, kept)
+        dealings.clear()
+        dealings.append((WAIT,))
+        for i in (0, 1, 2) * 3:
+            tries.go(i)
+        self.assertEqual((tries.order(), tries.now()), ([2, 1], (4, 0, 0)))
 
     def test_what_is_done_to_a_log_later_changes_nothing_that_was_told(self):
         log = list(GOOD_LOG)
@@ -151,6 +197,49 @@ class ToldTest(unittest.TestCase):
         for log in (GOOD_LOG, BAD_LOG, []):
             lists = lists_in(told_of_logs(log)) + lists_in(told_of_logs(log)) + [log]
             self.assertEqual(len({id(told) for told in lists}), len(lists))
+
+    def test_changed_lists_of_a_tale_change_nothing_later(self):
+        for tale in TALES:
+            kept = copy.deepcopy(told_of_tales(tale))
+            lists = lists_in(told_of_tales(tale)) + lists_in(told_of_tales(tale))
+            self.assertEqual(len({id(told) for told in lists}), len(lists))
+            for told in lists:
+                told.append(9)
+                told.reverse()
+            self.assertEqual(told_of_tales(tale), kept)
+
+    def owns_its_lists(self, thing, tell):
+        """What was told is changed by the asker, and asked again; tells what was told, kept as it was."""
+        kept = copy.deepcopy(tell(thing))
+        lists = lists_in(tell(thing)) + lists_in(tell(thing))
+        self.assertEqual(len({id(told) for told in lists}), len(lists))
+        for told in lists:
+            told.append(9)
+            told.reverse()
+        self.assertEqual(tell(thing), kept)
+        return kept
+
+    def test_changed_lists_of_a_keeper_change_nothing_later(self):
+        keeper = Keeper(WORLD, STATE)
+        calls = [(keeper.begin, 1), (keeper.begin, 2), (keeper.look, 1, 0), (keeper.put, 2, 0, 1), (keeper.put, 2, 1, 1),
+                 (keeper.take, 2), (keeper.write, 2), (keeper.write, 2), (keeper.fall, 1)]
+        told = []
+        for called, *rest in calls:
+            called(*rest)
+            told.append((told_of_keeper(keeper), self.owns_its_lists(keeper, told_of_keeper)))
+        for one, kept in told:
+            # None that was told changed by what came later.
+            self.assertEqual(one, kept)
+
+    def test_changed_lists_of_tries_change_nothing_later(self):
+        tries = Tries(WORLD, STATE, [(("look", 0, 2), ("put", 1, 0)), LOOKS_AND_WAITS], 1)
+        told = []
+        for i in (0, 1, 0, 1, 0, 1, 0, 1, 0, 1):
+            tries.go(i)
+            told.append((told_of_tries(tries), self.owns_its_lists(tries, told_of_tries)))
+        self.assertEqual(tries.order(), [0])
+        for one, kept in told:
+            self.assertEqual(one, kept)
 
     def test_a_later_telling_changes_none_that_was_told(self):
         first = footprint(WORLD, (("look", 0, 2), ("put", 1, 0)), STATE)
