@@ -49,17 +49,20 @@ def good(world, state, log, every):
 
 def shows_none(world, state, log, every, thing):
     asking = asking_few(log, every)
-    if not isinstance(thing, list) or not all([is_place(world, asking.ones, place) for place in thing]):
-        return False
+    places = closed_places(world, state, asking.ones, thing, lambda place: ways_on(asking, place))
+    return places is not None and all([len(place[0]) < len(asking.ones) for place in places])
+
+
+def closed_places(world, state, ones, thing, ways):
+    if not isinstance(thing, list) or not all([is_place(world, ones, place) for place in thing]):
+        return None
     places = dict([(place, True) for place in thing])
     if ((), state) not in places:
-        return False
+        return None
     for place in places:
-        if len(place[0]) == len(asking.ones):
-            return False
-        if not all([way[1] in places for way in ways_on(asking, place)]):
-            return False
-    return True
+        if not all([way[1] in places for way in ways(place)]):
+            return None
+    return places
 
 
 def is_place(world, ones, thing):

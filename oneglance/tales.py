@@ -1,6 +1,6 @@
 """Tales: whose number each look told."""
 
-from oneglance.wholes import is_within
+from oneglance.wholes import is_whole, is_within
 
 MOST_ATTEMPTS = 30
 MOST_BOXES = 6
@@ -49,13 +49,11 @@ def is_look(many, writers, thing):
         return False
     if not is_within(thing[0], 0, many - 1) or not is_within(thing[1], 0, len(writers) - 1):
         return False
-    return is_source(many, writers[thing[1]], thing[0], thing[2])
+    return is_source(writers[thing[1]], thing[0], thing[2])
 
 
-def is_source(many, row, a, thing):
-    if not is_within(thing, AT_FIRST, many - 1):
-        return False
-    return thing == AT_FIRST or (thing in row and thing != a)
+def is_source(row, a, thing):
+    return is_whole(thing) and (thing == AT_FIRST or (thing in row and thing != a))
 
 
 def is_rising(parts):

@@ -1,6 +1,10 @@
 import unittest
 
 from oneglance import errors
+from oneglance.desk import Desk
+from oneglance.good import first_bad, good, shows_none
+from oneglance.keeper import Keeper
+from oneglance.texts import read_dealing
 
 OF_A_TEXT = [errors.TooMany, errors.NoAttempt, errors.NoStep, errors.NoRow]
 
@@ -35,3 +39,37 @@ class ErrorsTest(unittest.TestCase):
         one = errors.NoText(1)
         other = errors.NoText(2)
         self.assertEqual((one.at, other.at), (1, 2))
+
+
+class RefusalsTest(unittest.TestCase):
+    """Each refusal of the program is taken by its own class, by those it stands under, and by no other one."""
+
+    def refused(self, error, called, *parts):
+        with self.assertRaises(ValueError) as caught:
+            called(*parts)
+        refusal = caught.exception
+        self.assertIs(type(refusal), error)
+        for other in OF_A_TEXT + [errors.NoText]:
+            self.assertIs(isinstance(refusal, other), other is error)
+        self.assertIsInstance(refusal, errors.GlanceError)
+        return refusal
+
+    def test_too_many(self):
+        log = [("begin", a) for a in range(9)]
+        self.refused(errors.TooMany, good, (1, 2), (0,), log, True)
+        self.refused(errors.TooMany, shows_none, (1, 2), (0,), log, True, [])
+        self.refused(errors.TooMany, first_bad, (1, 2), (0,), log)
+
+    def test_of_a_keeper(self):
+        keeper = Keeper((1, 2), (0,))
+        self.refused(errors.NoAttempt, keeper.take, 3)
+        keeper.begin(3)
+        self.refused(errors.NoAttempt, keeper.begin, 3)
+        self.refused(errors.NoStep, keeper.write, 3)
+
+    def test_of_texts_and_a_desk(self):
+        desk = Desk()
+        self.refused(errors.NoRow, desk.say, "now")
+        desk.say("world 1 2 0")
+        self.assertEqual(self.refused(errors.NoText, desk.say, "deal ( x )").at, 2)
+        self.assertEqual(self.refused(errors.NoText, read_dealing, (1, 2), "( x )").at, 1)

@@ -5,14 +5,18 @@ import unittest
 
 from oneglance.alone import alone, footprint
 from oneglance.dealings import deeds_in, is_dealing
+from oneglance.desk import Desk
 from oneglance.good import first_bad, good, shows_none
 from oneglance.keeper import Keeper
 from oneglance.logs import ahead, attempts, end_of, is_log, outer_looks, puts_of
 from oneglance.musts import is_ring, is_tale_order, musts, order_or_ring
 from oneglance.orders import asked, behind, is_order, moments
 from oneglance.rows import in_row
+from oneglance.starving import starver
 from oneglance.tales import is_tale, would_tell
+from oneglance.texts import dealing_text, read_dealing
 from oneglance.tries import Tries
+from oneglance.waits import all_done, shows_free, shows_never, stuck
 from oneglance.wholes import is_whole
 from oneglance.worlds import is_state, is_world
 from tests.things import ANYTHING, HUGE, woven_dealings, woven_logs
@@ -57,6 +61,17 @@ def told_of_tries(tries):
     return [tries.log(), tries.order(), tries.now(), tries.rests(), tries.falls(0), tries.hands(0)]
 
 
+COPIES = (("look", 0, 2), ("put", 1, 0))
+ROWS = [[()], [LOOKS_AND_WAITS], [COPIES, LOOKS_AND_WAITS], [COPIES, COPIES], [(), COPIES, LOOKS_AND_WAITS]]
+
+
+def told_of_rows(dealings):
+    """All that is told of dealings that go on beside one another, each time asked anew."""
+    every, left = all_done(WORLD, STATE, dealings), stuck(WORLD, STATE, dealings)
+    told = [every, left, shows_never(WORLD, STATE, dealings, every[1]), shows_free(WORLD, STATE, dealings, left[1])]
+    return told + [starver(WORLD, STATE, dealings, 0, 1, 9), in_row(WORLD, dealings, STATE, [0])]
+
+
 def lists_in(told):
     if isinstance(told, list):
         return [told] + [inner for part in told for inner in lists_in(part)]
@@ -86,6 +101,8 @@ class HandedInTest(unittest.TestCase):
             is_log(WORLD, thing)
             is_tale(thing)
             shows_none(WORLD, STATE, BAD_LOG, True, thing)
+            shows_never(WORLD, STATE, [LOOKS_AND_WAITS], thing)
+            shows_free(WORLD, STATE, [COPIES], thing)
         self.assertEqual(repr(things), before)
 
     def test_dealings_and_states_stay_as_they_were(self):
@@ -126,7 +143,7 @@ class HandedInTest(unittest.TestCase):
                 self.assertEqual(order, before)
 
     def test_dealings_to_be_tried_stay_as_they_were_and_are_not_kept(self):
-        dealings = [LOOKS_AND_WAITS, (("look", 0, 2), ("put", 1, 0)), ()]
+        dealings = [LOOKS_AND_WAITS, COPIES, ()]
         kept = list(dealings)
         tries = Tries(WORLD, STATE, dealings)
         for i in (0, 1, 2) * 3:
@@ -137,6 +154,25 @@ class HandedInTest(unittest.TestCase):
         for i in (0, 1, 2) * 3:
             tries.go(i)
         self.assertEqual((tries.order(), tries.now()), ([2, 1], (4, 0, 0)))
+
+    def test_dealings_and_tables_of_waits_stay_as_they_were(self):
+        for dealings in ROWS:
+            kept = list(dealings)
+            told = told_of_rows(dealings)
+            self.assertEqual(dealings, kept)
+            for table in (told[0][1], told[1][1]):
+                before = list(table)
+                shows_never(WORLD, STATE, dealings, table)
+                shows_free(WORLD, STATE, dealings, table)
+                self.assertEqual(table, before)
+
+    def test_dealings_written_stay_as_they_were(self):
+        for dealing in woven_dealings(8, WORLD, 100):
+            before = repr(dealing)
+            text = dealing_text(dealing)
+            self.assertEqual((repr(dealing), dealing_text(dealing)), (before, text))
+            if is_dealing(WORLD, dealing):
+                self.assertEqual(read_dealing(WORLD, text), read_dealing(WORLD, text))
 
     def test_what_is_done_to_a_log_later_changes_nothing_that_was_told(self):
         log = list(GOOD_LOG)
@@ -208,6 +244,27 @@ class ToldTest(unittest.TestCase):
                 told.reverse()
             self.assertEqual(told_of_tales(tale), kept)
 
+    def test_changed_lists_of_waits_and_starving_change_nothing_later(self):
+        for dealings in ROWS:
+            self.owns_its_lists(dealings, told_of_rows)
+
+    def test_what_came_later_changes_none_that_was_told_of_dealings(self):
+        for dealings in ROWS:
+            handed = list(dealings)
+            told = told_of_rows(handed)
+            kept = copy.deepcopy(told)
+            handed.clear()
+            handed.append((WAIT,))
+            told_of_rows(handed)
+            self.assertEqual(told, kept)
+
+    def test_a_desk_tells_the_same_anew(self):
+        rows = ["world 3 7 4 5 0", "deal " + dealing_text(COPIES), "try -", "go 0", "now", "order", "all", "stuck"]
+        self.assertEqual([Desk().say(rows[0])] * 2, ["ok"] * 2)
+        desks = [Desk(), Desk()]
+        for row in rows:
+            self.assertEqual(desks[0].say(row), desks[1].say(row))
+
     def owns_its_lists(self, thing, tell):
         """What was told is changed by the asker, and asked again; tells what was told, kept as it was."""
         kept = copy.deepcopy(tell(thing))
@@ -221,8 +278,8 @@ class ToldTest(unittest.TestCase):
 
     def test_changed_lists_of_a_keeper_change_nothing_later(self):
         keeper = Keeper(WORLD, STATE)
-        calls = [(keeper.begin, 1), (keeper.begin, 2), (keeper.look, 1, 0), (keeper.put, 2, 0, 1), (keeper.put, 2, 1, 1),
-                 (keeper.take, 2), (keeper.write, 2), (keeper.write, 2), (keeper.fall, 1)]
+        calls = [(keeper.begin, 1), (keeper.begin, 2), (keeper.look, 1, 0), (keeper.put, 2, 0, 1),
+                 (keeper.put, 2, 1, 1), (keeper.take, 2), (keeper.write, 2), (keeper.write, 2), (keeper.fall, 1)]
         told = []
         for called, *rest in calls:
             called(*rest)
@@ -232,7 +289,7 @@ class ToldTest(unittest.TestCase):
             self.assertEqual(one, kept)
 
     def test_changed_lists_of_tries_change_nothing_later(self):
-        tries = Tries(WORLD, STATE, [(("look", 0, 2), ("put", 1, 0)), LOOKS_AND_WAITS], 1)
+        tries = Tries(WORLD, STATE, [COPIES, LOOKS_AND_WAITS], 1)
         told = []
         for i in (0, 1, 0, 1, 0, 1, 0, 1, 0, 1):
             tries.go(i)

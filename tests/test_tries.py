@@ -23,6 +23,10 @@ TAKES = (("look", 0, 2), ("leap", 0, 2), ("put", 2, 1), ("leap", 1, 12), WAIT)
 GIVES = (("set", 0, 1), ("put", 2, 0))
 EITHER = (("try", TAKES, (("look", 2, 1), ("leap", 2, 2), ("put", 1, 1), ("leap", 1, 12), WAIT)), ("put", 0, 2))
 POOL = [ADD_ONE, LOOKS, BLIND, BOTH, TAKES, GIVES, EITHER]
+# Short ones over two boxes that get into one another's way.
+RIVALS = [(("put", 0, 0),), (("set", 0, 1), ("put", 1, 0), ("put", 0, 0)), (("look", 0, 0), ("put", 0, 1)),
+          (("look", 0, 0), ("look", 1, 1), ("put", 1, 0)), (("look", 0, 1), ("leap", 0, 1), WAIT, ("put", 0, 0)),
+          (("look", 0, 0), ("leap", 0, 2), ("put", 1, 0), ("leap", 1, 12), WAIT), (("look", 0, 1), ("look", 1, 0))]
 
 
 def all_told(tries, many):
@@ -37,7 +41,15 @@ def woven_dealing(source, world):
     return woven_run(source, world, 3, source.randint(1, 6))
 
 
+def woven_turn(source, tries, many):
+    """Mostly one that is not done yet."""
+    left = [i for i in range(many) if tries.hands(i) is None]
+    return source.choice(left) if left and source.random() < 0.95 else source.randrange(many)
+
+
 def woven_case(source):
+    if source.random() < 0.5:
+        return (2, 2), (source.randrange(2), source.randrange(2)), source.choices(RIVALS, k=source.randint(2, 5))
     world = source.choice([(1, 2), (2, 3), WORLD, WORLD])
     state = tuple(source.randrange(world[1]) for b in range(world[0]))
     return world, state, [woven_dealing(source, world) for i in range(source.randint(1, 5))]
@@ -193,7 +205,8 @@ class TryTest(unittest.TestCase):
         tries = self.steps((first,), self.went(14) + ["done"])
         self.assertEqual(tries.hands(0), (0, 0, 0, 4))
         tries = self.steps((("try", (second,), (WAIT,)),), self.went(12) + ["slept", "asleep"])
-        self.assertEqual(tries.log(), [("begin", 0), ("look", 0, 0, 4), ("look", 0, 1, 5), ("look", 0, 2, 0), ("fall", 0)])
+        self.assertEqual(tries.log(), [("begin", 0), ("look", 0, 0, 4), ("look", 0, 1, 5), ("look", 0, 2, 0),
+                                       ("fall", 0)])
 
     def test_leap_stays_within_its_tuple(self):
         tries = self.steps((("try", (("leap", 0, 12), WAIT), ()), ("set", 1, 6)), self.went(3) + ["done"])
@@ -405,19 +418,19 @@ class PatienceTest(unittest.TestCase):
         self.assertEqual((self.tries.falls(0), self.tries.now()), (1, (4, 5, 3)))
 
     def test_the_taking_of_the_first_is_held_where_a_box_is_held(self):
-        self.tried(1, (("put", 2, 0), ("put", 1, 0)), BLIND, GIVES)
+        self.tried(1, (("set", 0, 1), ("put", 2, 0), ("put", 1, 0)), BLIND, GIVES)
         self.goes(2, "begun", "went", "went", "took")
-        self.goes(0, "begun", "went", "went", "fell")
+        self.goes(0, "begun", "went", "went", "went", "fell")
         self.goes(2, "done")
         self.goes(1, "begun", "went", "went", "went", "took")
         log = self.tries.log()
-        self.goes(0, "begun", "went", "went", "held", "held")
+        self.goes(0, "begun", "went", "went", "went", "held", "held")
         self.assertEqual(self.tries.log(), log + [("begin", 3)])
         self.goes(1, "wrote")
         self.goes(0, "held")
         self.goes(1, "done")
         self.goes(0, "took", "wrote", "done")
-        self.assertEqual(self.tries.now(), (3, 0, 0))
+        self.assertEqual(self.tries.now(), (3, 1, 1))
 
     def test_the_taking_of_the_first_without_puts_is_not_held(self):
         self.tried(1, (("look", 0, 2),), BLIND, GIVES)
@@ -443,6 +456,17 @@ class PatienceTest(unittest.TestCase):
         self.goes(2, "done")
         self.goes(0, "went", "went", "slept", "asleep")
         self.assertEqual(self.tries.falls(0), 2)
+
+    def test_behind_a_waking_so_many_falls_end_the_patience_again(self):
+        for patience in (1, 2, 3):
+            self.tried(patience, (("look", 0, 0), WAIT), BLIND)
+            self.goes(0, "begun", "went", "slept")
+            self.goes(1, "begun", "went", "went", "went", "took", "wrote")
+            self.goes(0, *["begun", "fell"] * patience)
+            self.goes(0, "begun", "held", "held")
+            self.assertEqual(self.tries.falls(0), patience)
+            self.goes(1, "done")
+            self.goes(0, "went", "slept", "asleep")
 
     def test_falls_in_all_go_on_being_counted(self):
         self.tried(1, (("look", 0, 2), WAIT), GIVES, BLIND)
@@ -488,7 +512,7 @@ class WovenTriesTest(unittest.TestCase):
         tries, other = Tries(world, state, dealings, patience), otherwise.Tries(world, state, dealings, patience)
         taken = {}
         for step in range(steps):
-            i = source.randrange(len(dealings))
+            i = woven_turn(source, tries, len(dealings))
             word = tries.go(i)
             self.assertEqual(word, other.go(i), (case, patience))
             self.words[word] = self.words.get(word, 0) + 1
@@ -507,9 +531,9 @@ class WovenTriesTest(unittest.TestCase):
     def test_each_step_with_and_without_patience(self):
         source = random.Random(82)
         self.words = {}
-        for times in range(500):
+        for times in range(1000):
             case = woven_case(source)
-            tries = self.weave(source, case, source.choice([None, None, 0, 1, 2, 3, 20]), source.choice([20, 60]))
+            tries = self.weave(source, case, source.choice([None, 0, 1, 1, 1, 2, 20]), source.choice([20, 60]))
             world, state, dealings = case
             log = tries.log()
             self.assertTrue(is_log(world, log))
@@ -558,7 +582,7 @@ class WovenTriesTest(unittest.TestCase):
             tries = Tries(world, state, dealings, patience)
             since = [0] * len(dealings)
             for step in range(120):
-                i = min(source.randrange(len(dealings)), source.randrange(len(dealings)))
+                i = woven_turn(source, tries, len(dealings))
                 word = tries.go(i)
                 since[i] = {"fell": since[i] + 1, "slept": 0}.get(word, since[i])
                 self.assertLessEqual(since[i], patience)
