@@ -173,11 +173,11 @@ class DeskTest(unittest.TestCase):
 
     def test_world(self):
         self.says(("world 1 2 0", "ok"), ("world 6 1000 999 0 1 2 3 4", "ok"))
-        self.refused("world", "world 1", "world 1 2", "world 1 2 0 0", "world 2 2 0", "world 0 2",
-                     "world 7 2 0 0 0 0 0 0 0", "world 1 1 0", "world 1 1001 0", "world 1 2 2", "world 2 5 0 5", "world 2 5 5 0", "world 1 2 -1",
-                     "world 1 2 00", "world 01 2 0", "world 1 02 0", "world 1 2 x", "world 1 2 ", "world  1 2 0",
-                     "world 1 2 0 ", " world 1 2 0", "World 1 2 0", "world 1 2 +0", "world 1 10000 0", "world 1 2 0\n",
-                     "world 1 2\t0", "world 1 1e3 0", "world 1 2 -")
+        self.refused("world", "world 1", "world 1 2", "world 1 2 0 0", "world 2 2 0", "world 0 2", "world 1 1 0",
+                     "world 7 2 0 0 0 0 0 0 0", "world 1 1001 0", "world 1 2 2", "world 2 5 0 5", "world 2 5 5 0",
+                     "world 1 2 -1", "world 1 2 00", "world 01 2 0", "world 1 02 0", "world 1 2 x", "world 1 2 ",
+                     "world  1 2 0", "world 1 2 0 ", " world 1 2 0", "World 1 2 0", "world 1 2 +0", "world 1 10000 0",
+                     "world 1 2 0\n", "world 1 2\t0", "world 1 1e3 0", "world 1 2 -")
 
     def test_a_new_world_takes_all_away(self):
         self.says(("world 2 10 3 0", "ok"), (ADD_ONE, "0"), ("try -", "ok"), ("world 2 10 3 0", "ok"))

@@ -236,13 +236,7 @@ class ToldTest(unittest.TestCase):
 
     def test_changed_lists_of_a_tale_change_nothing_later(self):
         for tale in TALES:
-            kept = copy.deepcopy(told_of_tales(tale))
-            lists = lists_in(told_of_tales(tale)) + lists_in(told_of_tales(tale))
-            self.assertEqual(len({id(told) for told in lists}), len(lists))
-            for told in lists:
-                told.append(9)
-                told.reverse()
-            self.assertEqual(told_of_tales(tale), kept)
+            self.owns_its_lists(tale, told_of_tales)
 
     def test_changed_lists_of_waits_and_starving_change_nothing_later(self):
         for dealings in ROWS:
