@@ -182,6 +182,7 @@ class UnderTriesTest(unittest.TestCase):
     def test_where_free_all_are_done_wherever_it_rests(self):
         source = random.Random(104)
         seen = 0
+        rested = 0
         while seen < 120:
             case = woven_case(source, 4)
             many = len(case[2])
@@ -194,7 +195,9 @@ class UnderTriesTest(unittest.TestCase):
                             break
                         tries.go(source.randrange(many))
                     if tries.rests():
+                        rested += 1
                         self.assertEqual(sorted(tries.order()), list(range(many)))
+        self.assertGreater(rested, 600)
 
 
 class TablesTest(unittest.TestCase):
